@@ -25,6 +25,13 @@ WORDS = re.compile(
     r"\b(type|typing|typing_extensions|enum|Enum|IntEnum|StrEnum|Flag|IntFlag|Generic|Protocol|ABC|ABCMeta|"
     r"namedtuple|NamedTuple|TypedDict|TYPE_CHECKING|abstractmethod)\b|dataclass|overload|contextmanager"
 )
+WALKED = ("zip", "enumerate", "reversed", "range", "items", "keys", "values")
+WALKERS = ("list", "tuple", "dict", "sorted", "sum", "any", "all", "enumerate", "zip", "min", "max", "join")
+CHANGING = ("append", "clear", "extend", "insert", "pop", "remove", "reverse", "setdefault", "update")
+KEYWORDS = (
+    ("sorted", "key"), ("sorted", "reverse"), ("min", "key"), ("min", "default"), ("max", "key"), ("max", "default"),
+    ("sum", "start"), ("enumerate", "start"), ("zip", "strict"),
+)
 STATEMENTS = (
     ast.FunctionDef, ast.ClassDef, ast.Assign, ast.AugAssign, ast.If, ast.While, ast.For, ast.Return, ast.Break,
     ast.Continue, ast.Pass, ast.Raise, ast.Try, ast.Expr, ast.ImportFrom,
@@ -254,6 +261,76 @@ class TestNames(unittest.TestCase):
                 if isinstance(node, ast.Attribute):
                     with self.subTest(name, line=node.lineno):
                         self.assertIn(node.attr, OWN_OF_PYTHON | methods | values | DOUBLE)
+
+    def test_no_local_is_called_like_a_class_or_an_import(self):
+        for name, tree in trees().items():
+            locals_there = set()
+            for node in tree.body:
+                if isinstance(node, (ast.FunctionDef, ast.ClassDef)):
+                    locals_there |= bound_within(node)
+            taken = {each.name for each in tree.body if isinstance(each, ast.ClassDef)}
+            for node in tree.body:
+                if isinstance(node, ast.ImportFrom):
+                    taken |= {alias.asname or alias.name for alias in node.names}
+            self.assertEqual(locals_there & taken, set(), name)
+
+
+class TestWalkedAtOnce(unittest.TestCase):
+    def called(self, node):
+        """The name of Python's own that this calls, or the method; None where it is no call."""
+        if not isinstance(node, ast.Call):
+            return None
+        return node.func.id if isinstance(node.func, ast.Name) else getattr(node.func, "attr", None)
+
+    def places_where_one_may_walk(self, tree):
+        for node in ast.walk(tree):
+            if isinstance(node, (ast.For, ast.comprehension)):
+                yield node.iter
+            elif self.called(node) in WALKERS and node.args:
+                yield node.args[0]
+
+    def places_where_a_set_may_stand(self, tree):
+        for node in ast.walk(tree):
+            if isinstance(node, ast.Compare):
+                yield from node.comparators
+                if isinstance(node.ops[0], (ast.Eq, ast.NotEq)):
+                    yield node.left
+            elif self.called(node) in ("sorted", "len") and not node.keywords:
+                yield from node.args
+
+    def test_what_is_walked_is_not_kept(self):
+        for name, tree in trees().items():
+            allowed = [id(node) for node in self.places_where_one_may_walk(tree)]
+            for node in ast.walk(tree):
+                if self.called(node) in WALKED:
+                    with self.subTest(name, line=node.lineno):
+                        self.assertIn(id(node), allowed)
+
+    def test_sets_are_not_kept(self):
+        for name, tree in trees().items():
+            allowed = [id(node) for node in self.places_where_a_set_may_stand(tree)]
+            for node in ast.walk(tree):
+                if isinstance(node, ast.Set) or self.called(node) in ("set", "frozenset"):
+                    with self.subTest(name, line=node.lineno):
+                        self.assertIn(id(node), allowed)
+
+    def test_what_a_loop_walks_is_not_changed_in_it(self):
+        for name, tree in trees().items():
+            for loop in ast.walk(tree):
+                if isinstance(loop, ast.For):
+                    walked = {each.id for each in ast.walk(loop.iter) if isinstance(each, ast.Name)}
+                    for node in ast.walk(loop):
+                        if self.called(node) in CHANGING and isinstance(node.func, ast.Attribute):
+                            with self.subTest(name, line=node.lineno):
+                                self.assertNotIn(getattr(node.func.value, "id", None), walked)
+
+    def test_keywords(self):
+        for name, tree in trees().items():
+            for node in ast.walk(tree):
+                if self.called(node) in BUILT_IN | OWN_OF_PYTHON:
+                    for keyword in node.keywords:
+                        with self.subTest(name, line=node.lineno):
+                            self.assertIn((self.called(node), keyword.arg), KEYWORDS)
 
 
 if __name__ == "__main__":
