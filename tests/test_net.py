@@ -3,7 +3,7 @@
 import inspect
 import unittest
 
-from sample_organs import MIXED, Model, bits, chance_organs, chance_subset, most_rows
+from sample_organs import MIXED, Model, bits, chance_organs, chance_subset, members, most_rows
 from windchest import net
 from windchest.net import coupled_keys, down_keys, led_to, trail_to
 from windchest.organ import Organ
@@ -17,10 +17,6 @@ def organ_of(*couplers):
     """Knob 0 is the first coupler: from a board to a board, with a shift."""
     names = "abcdefghijkl"
     return Organ(BOARDS + [("coupler", name) + coupler for name, coupler in zip(names, couplers)])
-
-
-def members(some):
-    return [number for number in range(some.bit_length()) if some >> number & 1]
 
 
 class TestArguments(unittest.TestCase):
@@ -237,23 +233,7 @@ class TestDownAndCoupled(unittest.TestCase):
 
 class TestTrails(unittest.TestCase):
     def check_trail(self, model, knobs, held, key, least, trail):
-        self.assertIs(type(trail), tuple)
-        first, steps = trail
-        self.assertIs(type(steps), list)
-        self.assertGreaterEqual(len(steps), least)
-        self.assertIn(first, held)
-        ahead = first
-        for step in steps:
-            self.assertIs(type(step), tuple)
-            knob, there = step
-            self.assertIn(knob, knobs)
-            self.assertEqual(model.knobs[knob][0], "coupler")
-            self.assertEqual(model.led(knob, ahead), there)
-            ahead = there
-        self.assertEqual(ahead, key)
-        keys = [first] + [there for _, there in steps]
-        self.assertEqual(len(set(keys[:-1])), len(keys[:-1]))
-        self.assertNotIn(key, keys[1:-1])
+        self.assertIsNone(model.fault_of_trail(knobs, held, key, least, trail), trail)
 
     def check_all(self, rows, knobs, held):
         organ, model = Organ(rows), Model(rows)

@@ -2,19 +2,12 @@
 
 import inspect
 import unittest
-from unittest import mock
 
-from sample_organs import EXAMPLE, KNOB_WORDS, MIXED, most_rows
+from sample_organs import EXAMPLE, KNOB_WORDS, MIXED, NO_NAMES, most_rows
 from windchest.organ import Organ
 
 ONE_KEY = [("board", "a", 1)]
 SAMPLES = (ONE_KEY, EXAMPLE, MIXED, most_rows(0), most_rows(), most_rows(50))
-
-NO_NAMES = (
-    None, True, False, 0, 1, 5, -1, "", "Great", "GREAT", "great ", " great", "grea", "greatt", "gre at", "great\n",
-    "nothing", "abcdefghi", [], ["great"], (), ("great",), ("board", "great"), {}, {"great": 0}, {"great"}, b"great",
-    1.0, object(), mock.ANY,
-)
 
 
 def named(rows, words):

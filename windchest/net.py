@@ -15,9 +15,9 @@ def led_to(organ, knob, key):
     return organ.key(second[0], number)
 
 
-def drawn_couplers(organ, knobs):
+def drawn_of(organ, knobs, word):
     words = [told[0] for told in organ.knobs()]
-    return [knob for knob, word in enumerate(words) if word == "coupler" and has_member(knobs, knob)]
+    return [knob for knob, each in enumerate(words) if each == word and has_member(knobs, knob)]
 
 
 # A member beyond the organ's keys is no key, so it is not held either.
@@ -29,7 +29,7 @@ def held_keys(organ, held):
 # From each key the walk goes on but once, so rings end; and the key ahead of one that is not held
 # came into the walk before it, so steps followed back from there come to a held key, and meet no key twice.
 def coupled_ways(organ, knobs, held):
-    couplers = drawn_couplers(organ, knobs)
+    couplers = drawn_of(organ, knobs, "coupler")
     ways = {}
     left = members_of(held)
     while left:

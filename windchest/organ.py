@@ -93,15 +93,19 @@ class Organ:
     def knob_number(self, name):
         return self.knob_numbers.get(name) if is_name(name) else None
 
+    # The rows of all three kinds of knobs tell this board in the same place, of couplers the first one.
+    def board_of_knob(self, knob):
+        return self.board_numbers[self.knob_rows[knob][2]]
+
     def stop(self, knob):
-        return (self.board_numbers[self.knob_rows[knob][2]], list(self.knob_lines[knob]))
+        return (self.board_of_knob(knob), list(self.knob_lines[knob]))
 
     def coupler(self, knob):
         row = self.knob_rows[knob]
-        return (self.board_numbers[row[2]], self.board_numbers[row[3]], row[4])
+        return (self.board_of_knob(knob), self.board_numbers[row[3]], row[4])
 
     def mute(self, knob):
-        return self.board_numbers[self.knob_rows[knob][2]]
+        return self.board_of_knob(knob)
 
     def steps(self):
         return list(self.step_sets)

@@ -36,3 +36,10 @@ def shifted(some, steps, count):
     moved = some << steps if steps > 0 else some >> -steps
     # No number is below a count of 0 or less, and Python shifts by none below 0.
     return moved & ((1 << max(count, 0)) - 1)
+
+
+def union_of(sets):
+    some = 0
+    for each in sets:
+        some = some | each
+    return some
