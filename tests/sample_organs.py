@@ -1,4 +1,4 @@
-"""Organs to test with, and a plain model of their keys, knobs and pipes, worked out apart from the program."""
+"""Organs and rolls to test with, and plain models of organs, players and rolls, worked out apart from the program."""
 
 import random
 from unittest import mock
@@ -46,6 +46,12 @@ NO_NAMES = (
     None, True, False, 0, 1, 5, -1, "", "Great", "GREAT", "great ", " great", "grea", "greatt", "gre at", "great\n",
     "nothing", "abcdefghi", [], ["great"], (), ("great",), ("board", "great"), {}, {"great": 0}, {"great"}, b"great",
     1.0, object(), mock.ANY,
+)
+
+# What is no whole number at all, though some of these call themselves equal to one.
+NO_WHOLE = (
+    None, True, False, "", "0", "1", "one", "open", 0.0, 1.0, 9.0, [], [0], [1], (), (0,), (1,), {}, {0: 0}, {1}, b"1",
+    object(), mock.ANY, 1j,
 )
 
 
@@ -104,6 +110,18 @@ def chance_rows(chance, most_keys=8):
 def chance_organs(seed, count, most_keys=8):
     chance = random.Random(seed)
     return [(chance_rows(chance, most_keys), chance) for _ in range(count)]
+
+
+def lively_organs(seed, count, most_keys=4):
+    """Organs of few keys and many lines, so that something sounds at most times."""
+    chance = random.Random(seed)
+    found = []
+    while len(found) < count:
+        rows = chance_rows(chance, most_keys)
+        words = [row[0] for row in rows]
+        if words.count("board") <= 3 and words.count("line") >= 5 * words.count("board"):
+            found.append((rows, chance))
+    return found
 
 
 def chance_subset(chance, count):
@@ -203,3 +221,115 @@ class Model:
         if len(set(keys[:-1])) != len(keys[:-1]) or key in keys[1:-1]:
             return "a key comes twice"
         return None
+
+
+class PlayerModel:
+    """A player by points [11], [14] and [15]: a list of hands, each on a pair as in Model, and names that are drawn."""
+
+    WORDS = {"hold": [2], "leave": [2], "pull": [1], "push": [1], "store": [1, 2], "press": [1], "cancel": [0],
+             "shoe": [1]}
+
+    def __init__(self, rows):
+        self.model = Model(rows)
+        self.steps = [list(row[1:]) for row in rows if row[0] == "step"]
+        self.boards_of_knobs = {row[1]: row[2] for row in self.model.knobs}
+        self.hands = []
+        self.drawn = set()
+        self.stored = {}
+        self.step = 0
+
+    def held(self):
+        return {self.model.pairs.index(pair) for pair in self.hands}
+
+    def knobs(self):
+        names = self.drawn.union(*self.steps[:self.step])
+        return {number for number, name in enumerate(self.boards_of_knobs) if name in names}
+
+    def sound(self):
+        return self.model.sounding(self.knobs(), self.held())
+
+    def do(self, deed):
+        word, parts = deed[0], deed[1:]
+        if word == "hold":
+            self.hands.append(parts)
+        elif word == "leave":
+            self.hands.remove(parts)
+        elif word == "pull":
+            self.drawn.add(parts[0])
+        elif word == "push":
+            self.drawn.discard(parts[0])
+        elif word == "store":
+            board = parts[1] if len(parts) == 2 else None
+            whole = {name for name, first in self.boards_of_knobs.items() if board in (None, first)}
+            self.stored[parts[0]] = (self.drawn & whole, whole)
+        elif word == "press":
+            knobs, whole = self.stored[parts[0]]
+            self.drawn = self.drawn - whole | knobs
+        elif word == "cancel":
+            self.drawn, self.step = set(), 0
+        else:
+            self.step = parts[0]
+
+    def refusal_of(self, deed):
+        """The name of the refusal that this deed, with the word and the parts of one, comes to now, or None."""
+        word, parts = deed[0], deed[1:]
+        if word in ("hold", "leave"):
+            return self.refusal_of_key(word, parts)
+        if word in ("pull", "push") and parts[0] not in self.boards_of_knobs:
+            return "NoKnob"
+        if word in ("store", "press") and parts[0] not in range(10) or word == "press" and parts[0] not in self.stored:
+            return "NoPiston"
+        if word == "store" and parts[1:] not in ((), (None,)) and parts[1] not in self.model.boards:
+            return "NoBoard"
+        if word == "shoe" and parts[0] not in range(len(self.steps) + 1):
+            return "NoStep"
+        return None
+
+    def refusal_of_key(self, word, parts):
+        if parts[0] not in self.model.boards:
+            return "NoBoard"
+        if parts not in self.model.pairs:
+            return "NoKey"
+        return "NotHeld" if word == "leave" and parts not in self.hands else None
+
+
+def chance_deed(chance, model):
+    """A deed for a PlayerModel, some of them such as are refused, though all their parts are of the right kind."""
+    board = chance.choice([*model.model.boards] * 8 + ["nothing"])
+    keys = model.model.boards.get(board, 3)
+    key = chance.choice([*range(keys)] * 4 + [-1, keys])
+    knob = chance.choice([*model.boards_of_knobs] * 8 + ["nothing", board])
+    piston = chance.choice((0, 1, 2, 0, 1, 2, 9, 10, -1))
+    there = chance.choice(model.hands) if model.hands and chance.randrange(4) else (board, key)
+    step = chance.choice([*range(len(model.steps) + 1)] * 4 + [-1, len(model.steps) + 1])
+    word = chance.choice(["hold"] * 9 + ["leave"] * 5 + ["pull"] * 8 + ["push"] * 3 + ["store"] * 2 + ["shoe"] * 3
+                         + ["press", chance.choice(("press", "cancel", "pull"))])
+    return {
+        "hold": ("hold", *chance.choice((there, (board, key)))), "leave": ("leave", *there), "pull": ("pull", knob),
+        "push": ("push", knob), "press": ("press", piston), "cancel": ("cancel",), "shoe": ("shoe", step),
+        "store": ("store", piston, *chance.choice(((), (None,), (board,)))),
+    }[word]
+
+
+def chance_columns(chance, ticks, tracks, share=None):
+    """For each tick the set of the tracks that are open, of so many tracks."""
+    share = chance.choice((1, 3, 5, 8)) if share is None else share
+    return [{track for track in range(tracks) if chance.randrange(10) < share} for _ in range(ticks)]
+
+
+def roll_of_columns(columns):
+    """The roll that has these sets of tracks open, tick by tick, by point [16]."""
+    holes = []
+    for track in sorted(set().union(*columns)):
+        first = None
+        for tick, column in enumerate(columns + [set()]):
+            if track in column and first is None:
+                first = tick
+            elif track not in column and first is not None:
+                holes.append((first, track, tick))
+                first = None
+    return (len(columns), [(track, first, behind) for first, track, behind in sorted(holes)])
+
+
+def columns_of_holes(length, holes):
+    return [{track for track, first, behind in holes if first <= tick < behind} for tick in range(length)]

@@ -3,16 +3,11 @@
 import unittest
 from unittest import mock
 
-from sample_organs import MIXED, NO_NAMES, members, most_rows
+from sample_organs import MIXED, NO_NAMES, NO_WHOLE, members, most_rows
 from windchest.console import Console
 from windchest.errors import NoBoard, NoKnob, NoPiston, NoStep, OrganError
 from windchest.organ import Organ
 
-# What is no whole number at all, though some of these call themselves equal to one.
-NO_WHOLE = (
-    None, True, False, "", "0", "1", "one", "open", 0.0, 1.0, 9.0, [], [0], [1], (), (0,), (1,), {}, {0: 0}, {1}, b"1",
-    object(), mock.ANY, 1j,
-)
 BEYOND_PISTONS = (-1, -2, -10, 10, 11, 100, 10 ** 30, -10 ** 30)
 
 

@@ -15,10 +15,15 @@ def knob_named(organ, name):
     return set_of([knob])
 
 
-def knobs_of_board(organ, name):
+def board_named(organ, name):
     board = organ.board_number(name)
     if board is None:
         raise NoBoard("this is no board's name")
+    return board
+
+
+def knobs_of_board(organ, name):
+    board = board_named(organ, name)
     return set_of([knob for knob in range(len(organ.knobs())) if organ.board_of_knob(knob) == board])
 
 
