@@ -311,6 +311,25 @@ def chance_deed(chance, model):
     }[word]
 
 
+def tracks_of(model, keys):
+    return model.held() | {keys + knob for knob in model.knobs()}
+
+
+def chance_play(chance, rows, count, most_step):
+    """A play that no player refuses, with its columns, by a model."""
+    model, play, columns, tick = PlayerModel(rows), [], [], 0
+    keys = len(model.model.pairs)
+    for _ in range(count):
+        deed = chance_deed(chance, model)
+        if model.refusal_of(deed) is None:
+            ahead, tick = tick, tick + chance.randint(0, most_step)
+            columns += [tracks_of(model, keys)] * (tick - ahead)
+            model.do(deed)
+            play.append((tick, deed))
+    columns += [tracks_of(model, keys)] * chance.randint(1, 4)
+    return play, columns
+
+
 def chance_columns(chance, ticks, tracks, share=None):
     """For each tick the set of the tracks that are open, of so many tracks."""
     share = chance.choice((1, 3, 5, 8)) if share is None else share

@@ -5,7 +5,7 @@ import unittest
 from unittest import mock
 
 from sample_organs import (
-    MIXED, NO_WHOLE, PlayerModel, bits, chance_columns, chance_deed, lively_organs, members, most_rows, roll_of_columns,
+    MIXED, NO_WHOLE, PlayerModel, bits, chance_columns, chance_play, lively_organs, members, most_rows, roll_of_columns,
 )
 from windchest.errors import NoPlay, NoRoll, OrganError
 from windchest.organ import Organ
@@ -34,25 +34,6 @@ NO_DEEDS = (
     ("leave", "swell", 0), ("pull", "great"), ("push", []), ("store", 10), ("store", 0, "open"), ("press", 0),
     ("press", -1), ("shoe", 4), ("shoe", False), mock.ANY, (["hold"], "great", 0), {}, (0, ("cancel",)),
 )
-
-
-def chance_play(chance, rows, count, most_step):
-    """A play that no player refuses, with its columns, by a model."""
-    model, play, columns, tick = PlayerModel(rows), [], [], 0
-    keys = len(model.model.pairs)
-    for _ in range(count):
-        deed = chance_deed(chance, model)
-        if model.refusal_of(deed) is None:
-            ahead, tick = tick, tick + chance.randint(0, most_step)
-            columns += [tracks_of(model, keys)] * (tick - ahead)
-            model.do(deed)
-            play.append((tick, deed))
-    columns += [tracks_of(model, keys)] * chance.randint(1, 4)
-    return play, columns
-
-
-def tracks_of(model, keys):
-    return model.held() | {keys + knob for knob in model.knobs()}
 
 
 class TestArguments(unittest.TestCase):

@@ -18,8 +18,11 @@ def open_tracks(organ, player):
     return player.held() | player.knobs() << organ.key_count()
 
 
-# Tells for each tick of the play, in their order, which tracks are open from there on.
+# Tells for each tick of the play, in their order, which tracks are open from there on. Apart from cut_play,
+# for those who ask whether there is any NoPlay, and not yet how many holes come of it.
 def runs_of(organ, play, length):
+    if not isinstance(play, list) or len(play) > MOST_THINGS or not is_length(length):
+        raise NoPlay(None)
     player = Player(organ)
     runs = {}
     tick = 0
@@ -33,14 +36,11 @@ def runs_of(organ, play, length):
         tick = thing[0]
         # What later deeds of the same tick leave comes in the place of this.
         runs[tick] = open_tracks(organ, player)
-    return runs
+    return list(runs.items())
 
 
 def cut_play(organ, play, length):
-    if not isinstance(play, list) or len(play) > MOST_THINGS or not is_length(length):
-        raise NoPlay(None)
-    runs = runs_of(organ, play, length)
-    return roll_of_runs(length, list(runs.items()))
+    return roll_of_runs(length, runs_of(organ, play, length))
 
 
 # Of the tracks from a first one on, so many, the numbers that they have from there.

@@ -44,15 +44,21 @@ def is_roll(thing):
     return thing[1] == holes_of(thing[1])
 
 
-def roll_from(length, spans):
+def few_holes_of(spans):
     holes = holes_of(spans)
-    if length > MOST_TICKS or len(holes) > MOST_HOLES:
-        raise NoRoll("this comes to too many ticks or too many holes")
-    return (length, holes)
+    if len(holes) > MOST_HOLES:
+        raise NoRoll("this comes to too many holes")
+    return holes
+
+
+def roll_from(length, spans):
+    if length > MOST_TICKS:
+        raise NoRoll("this comes to too many ticks")
+    return (length, few_holes_of(spans))
 
 
 # Each run is a tick and the set of tracks that are open from there on, until the next run or the roll's end;
-# ticks rise from run to run.
+# ticks rise from run to run. The length is one that the asker took for good, so it is not refused here.
 def roll_of_runs(length, runs):
     spans = []
     since = {}
@@ -63,7 +69,7 @@ def roll_of_runs(length, runs):
         for track in members_of(run[1] & ~ahead):
             since[track] = run[0]
         ahead = run[1]
-    return roll_from(length, spans)
+    return (length, few_holes_of(spans))
 
 
 def roll_of(length, spans):
@@ -114,3 +120,7 @@ def changes_of(roll):
     ticks = sorted(set(list(opened) + list(closed)))
     # No two holes of a track touch, so what is opened at a tick was not open just before.
     return [(tick, sorted(opened.get(tick, [])), sorted(closed.get(tick, []))) for tick in ticks]
+
+
+def change_ticks(roll):
+    return [change[0] for change in changes_of(roll)]
